@@ -1,0 +1,1 @@
+"""Turns of a duel: phases, steps and priority."""
