@@ -1,9 +1,20 @@
 """Calls by name, and two ways to have them answered."""
 
 from turnsteps.duel import answer_call, answers
-from turnsteps.state import Delayed, Duel, Mark, take_number
+from turnsteps.state import Duel
 
 FAR = 1000000000000000000
+NO_SIDE = (-FAR, -2, -1, 2, 3, FAR)
+
+ENDTURN = (18,)
+BREAKOFF = (19,)
+STATE = (20,)
+STACK = (21,)
+COMING = (22,)
+MARKS = (23,)
+DELAYS = (24,)
+LEDGER = (25,)
+TELLING = (STATE, STACK, COMING, MARKS, DELAYS, LEDGER)
 
 
 def begin(side):
@@ -58,6 +69,26 @@ def allow(n):
     return (12, n)
 
 
+def counter(number):
+    return (13, number)
+
+
+def mark(till, side=0, step=0):
+    return (14, till, side, step)
+
+
+def unmark(number):
+    return (15, number)
+
+
+def delay(owner, side, step):
+    return (16, owner, side, step)
+
+
+def undelay(number):
+    return (17, number)
+
+
 def flat(calls):
     return [number for call in calls for number in call]
 
@@ -81,7 +112,7 @@ def ask(*calls):
 
 
 class Line:
-    """A duel whose calls are given one by one, and whose marks and things put off a test may lay down itself."""
+    """A duel whose calls are given one by one."""
 
     def __init__(self, *calls):
         self.duel = Duel()
@@ -95,6 +126,10 @@ class Line:
     def calls(self, *calls):
         return [self.call(call) for call in calls]
 
+    def told(self):
+        """What the six calls that only tell answer."""
+        return self.calls(*TELLING)
+
     def end_step(self):
         """Both sides pass; the answer to the second pass."""
         first = self.duel.holder
@@ -107,18 +142,30 @@ class Line:
             self.end_step()
         return self
 
+    def to_dusk(self):
+        """To a dusk in which sides are asked: a thing put off to it, of side 1, lies on the stack alone."""
+        self.to_step(9).delay(1, 2, 10)
+        self.end_step()
+        return self
+
     def mark(self, till, side=0, step=0):
-        number = take_number(self.duel)
-        self.duel.marks.append(Mark(number, till, side, step))
-        return number
+        return self.number_of(mark(till, side, step))
 
     def delay(self, owner, side, step):
-        number = take_number(self.duel)
-        self.duel.delayed.append(Delayed(number, owner, side, step))
+        return self.number_of(delay(owner, side, step))
+
+    def number_of(self, call):
+        """The number that an accepted act, mark or delay answers."""
+        accepted, number = self.call(call)
         return number
 
     def mark_numbers(self):
-        return [mark.number for mark in self.duel.marks]
+        return self.call(MARKS)[1::4]
+
+    def delay_numbers(self):
+        return self.call(DELAYS)[1::4]
 
     def stack(self):
-        return [(item.number, item.side, item.shuts) for item in self.duel.stack]
+        """The items, from the top: number, side, 1 or 0."""
+        told = self.call(STACK)[1:]
+        return [tuple(told[place:place + 3]) for place in range(0, len(told), 3)]

@@ -3,10 +3,10 @@
 import unittest
 
 from tests.helper import (
-    FAR, Line, act, allow, ask, begin, extrastep, extraturn, fight, now, pass_on, play, skipstep,
+    FAR, NO_SIDE, TELLING, Line, act, allow, ask, begin, counter, delay, extrastep, extraturn, fight, mark, now,
+    pass_on, play, skipstep, undelay, unmark,
 )
-
-NO_SIDE = (-FAR, -2, -1, 2, 3, FAR)
+from turnsteps.state import Item
 
 
 class Begin(unittest.TestCase):
@@ -85,13 +85,13 @@ class Pass(unittest.TestCase):
     def test_a_play_breaks_a_row_of_passes(self):
         # Only an item that leaves the stack undone brings the active side to an empty stack behind a pass.
         line = Line(begin(0)).to_step(3)
-        line.calls(pass_on(0), act(1), pass_on(1))
-        line.duel.stack.clear()
+        line.calls(pass_on(0), act(1), pass_on(1), counter(1))
         self.assertEqual(line.calls(play(0), pass_on(0), pass_on(1)), [[0, 0], [0], [0, 2, 4]])
 
     def test_other_calls_leave_who_has_passed_as_it_was(self):
         line = Line(begin(0), pass_on(0))
         line.calls(now(1), now(0), allow(1), extraturn(1), skipstep(1, 0), extrastep(9))
+        line.calls(mark(2), unmark(1), delay(0, 0, 3), undelay(2), *TELLING)
         self.assertEqual(line.call(pass_on(1)), [0, 2, 9])
 
 
@@ -114,7 +114,7 @@ class Act(unittest.TestCase):
 
     def test_an_item_lies_on_top_with_its_side(self):
         line = Line(begin(0), act(0), pass_on(0), act(1, 1))
-        self.assertEqual(line.stack(), [(2, 1, True), (1, 0, False)])
+        self.assertEqual(line.stack(), [(2, 1, 1), (1, 0, 0)])
 
     def test_numbers_out_of_range(self):
         for number in NO_SIDE:
@@ -173,7 +173,8 @@ class Shutting(unittest.TestCase):
         )
 
     def test_the_other_sides_item_shuts_too(self):
-        self.assertEqual(ask(begin(0), pass_on(0), act(1, 1), act(1), pass_on(1), act(0))[2:], [[0, 1], [-6], [0], [-6]])
+        answered = ask(begin(0), pass_on(0), act(1, 1), act(1), pass_on(1), act(0))
+        self.assertEqual(answered[2:], [[0, 1], [-6], [0], [-6]])
 
     def test_it_is_over_once_the_item_is_done(self):
         self.assertEqual(
@@ -182,12 +183,10 @@ class Shutting(unittest.TestCase):
         )
 
     def test_an_item_below_the_top_shuts_too(self):
-        line = Line(begin(0)).to_step(9)
-        line.delay(1, 2, 1)
-        line.end_step()
-        line.duel.stack[0].shuts = True
-        line.duel.stack.insert(0, type(line.duel.stack[0])(9, 0, False))
-        self.assertEqual(line.call(act(1)), [-6])
+        # No call puts anything onto an item that shuts, so the state is laid down here.
+        line = Line(begin(0))
+        line.duel.stack.extend([Item(2, 0, False), Item(1, 1, True)])
+        self.assertEqual(line.call(act(0)), [-6])
 
     def test_passing_is_free(self):
         self.assertEqual(ask(begin(0), act(0, 1), pass_on(0), pass_on(1))[2:], [[0], [0, 3, 1]])

@@ -3,10 +3,8 @@
 import unittest
 
 from tests.helper import (
-    FAR, Line, ask, begin, extraphase, extrastep, extraturn, fight, pass_on, skipfight, skipstep, skipturn,
+    FAR, NO_SIDE, Line, ask, begin, extraphase, extrastep, extraturn, fight, pass_on, skipfight, skipstep, skipturn,
 )
-
-NO_SIDE = (-FAR, -2, -1, 2, 3, FAR)
 
 
 class Fight(unittest.TestCase):

@@ -167,6 +167,18 @@ class Names(unittest.TestCase):
                     self.assertIsInstance(node, ast.Expr)
             self.assertEqual(len(bound), len(set(bound)), name)
 
+    def test_what_stands_at_a_files_top_is_not_changed(self):
+        for name, tree in trees():
+            top = {node.targets[0].id for node in tree.body if isinstance(node, ast.Assign)}
+            top |= {alias.name for node in tree.body if isinstance(node, ast.ImportFrom) for alias in node.names}
+            changed = [node.value for node in ast.walk(tree)
+                       if isinstance(node, (ast.Subscript, ast.Attribute)) and isinstance(node.ctx, ast.Store)]
+            changed.extend([node.func.value for node in ast.walk(tree)
+                            if isinstance(node, ast.Call) and isinstance(node.func, ast.Attribute)])
+            for node in changed:
+                if isinstance(node, ast.Name):
+                    self.assertNotIn(node.id, top, f"{name}:{node.lineno}")
+
     def test_values_of_objects_and_methods(self):
         for name, tree in trees():
             called = {id(node.func) for node in ast.walk(tree) if isinstance(node, ast.Call)}

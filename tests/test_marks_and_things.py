@@ -1,10 +1,12 @@
-"""Marks and things put off, as going on treats them."""
+"""Marks and things put off, as going on treats them, laid down by the calls mark and delay."""
 
 import unittest
 
 from tests.helper import (
-    Line, act, begin, extraphase, extrastep, extraturn, fight, now, pass_on, skipfight, skipstep, skipturn,
+    DELAYS, MARKS, Line, act, begin, extraphase, extrastep, extraturn, fight, now, pass_on, skipfight, skipstep,
+    skipturn, undelay, unmark,
 )
+from turnsteps.state import Mark
 
 
 class MarksOfSteps(unittest.TestCase):
@@ -23,9 +25,9 @@ class MarksOfSteps(unittest.TestCase):
         self.assertEqual(line.end_step(), [0, 4, 2, 2, 2])
 
     def test_till_0_ends_with_a_step_in_which_nobody_is_asked(self):
+        # No call leaves such a mark for a dawn to come, so the state is laid down here.
         line = Line()
-        line.mark(0)
-        line.mark(2)
+        line.duel.marks.extend([Mark(1, 0, 0, 0), Mark(2, 2, 0, 0)])
         self.assertEqual(line.call(begin(0)), [0, 1, 0, 2, 0, 4, 1, 2, 1])
 
     def test_till_5_ends_at_a_step_of_its_side(self):
@@ -147,8 +149,7 @@ class MarksOfTurns(unittest.TestCase):
         line.mark(4, 0, 5)
         line.mark(4, 1, 6)
         line.to_step(9).end_step()
-        marks = [(mark.number, mark.till, mark.side, mark.step) for mark in line.duel.marks]
-        self.assertEqual(marks, [(1, 4, 0, 5), (2, 2, 1, 6)])
+        self.assertEqual(line.call(MARKS), [0, 1, 4, 0, 5, 2, 2, 1, 6])
         self.assertEqual(line.to_step(9).end_step(), [0, 2, 10, 4, 2, 1, 0, 2, 0, 2, 1])
         self.assertEqual(line.to_step(9).end_step(), [0, 2, 10, 4, 1, 1, 1, 2, 0, 2, 1])
 
@@ -161,14 +162,47 @@ class MarksOfTurns(unittest.TestCase):
         self.assertEqual(line.to_step(9).end_step()[:9], [0, 2, 10, 4, 1, 4, 2, 4, 3])
 
 
+class MarksTakenAway(unittest.TestCase):
+    def test_a_mark_of_each_till_for_each_side(self):
+        line = Line(begin(0))
+        for till in range(6):
+            line.mark(till, 0, 10)
+            line.mark(till, 1, 10)
+        for number in range(1, 13, 2):
+            self.assertEqual(line.call(unmark(number)), [0])
+        # Left are 2, 4, 6, 8, 10, 12: of the tills 0 to 5, of side 1.
+        self.assertEqual(line.end_step(), [0, 4, 2, 2, 2])
+        self.assertEqual(line.end_step(), [0, 4, 4, 2, 3])
+        self.assertEqual(line.to_step(9).end_step(), [0, 2, 10, 4, 6, 1, 1, 4, 8, 2, 0, 2, 1])
+        self.assertEqual(line.to_step(9).end_step(), [0, 2, 10, 4, 10, 4, 12, 1, 0, 2, 0, 2, 1])
+
+    def test_a_mark_of_till_4_in_the_turn_that_it_lasts_through(self):
+        line = Line(begin(0))
+        line.mark(4, 1)
+        line.mark(4, 1)
+        line.to_step(9).end_step()
+        self.assertEqual(line.call(unmark(1)), [0])
+        self.assertEqual(line.to_step(9).end_step(), [0, 2, 10, 4, 2, 1, 0, 2, 0, 2, 1])
+
+    def test_64_marks_end_at_one_time(self):
+        line = Line(begin(0))
+        for count in range(64):
+            line.mark(count % 2 * 5, 0, 2)
+        self.assertEqual(
+            line.end_step(),
+            [0] + [part for number in range(1, 65, 2) for part in (4, number)]
+            + [2, 2] + [part for number in range(2, 65, 2) for part in (4, number)],
+        )
+
+
 class ThingsPutOff(unittest.TestCase):
     def test_a_thing_comes_at_its_step(self):
         line = Line(begin(0))
         line.delay(1, 0, 3)
         self.assertEqual(line.end_step(), [0, 2, 2])
         self.assertEqual(line.end_step(), [0, 2, 3, 5, 1])
-        self.assertEqual(line.stack(), [(1, 1, False)])
-        self.assertEqual(line.duel.delayed, [])
+        self.assertEqual(line.stack(), [(1, 1, 0)])
+        self.assertEqual(line.call(DELAYS), [0])
         self.assertEqual(line.calls(now(0), now(1)), [[0, 1, 1, 0, 0], [0, 0, 0, 0, 0]])
         self.assertEqual(line.end_step(), [0, 3, 1])
         self.assertEqual(line.end_step(), [0, 2, 4])
@@ -179,7 +213,7 @@ class ThingsPutOff(unittest.TestCase):
         self.assertEqual(line.end_step(), [0, 2, 2])
         line.to_step(9).end_step()
         self.assertEqual(line.end_step(), [0, 2, 2, 5, 1])
-        self.assertEqual(line.stack(), [(1, 0, False)])
+        self.assertEqual(line.stack(), [(1, 0, 0)])
 
     def test_of_either_side(self):
         for side in (0, 1):
@@ -198,9 +232,33 @@ class ThingsPutOff(unittest.TestCase):
             line.delay(side, other, 2)
             self.assertEqual(line.end_step(), [0, 2, 2, 5, 2, 5, 4, 5, 1, 5, 3])
             self.assertEqual(
-                line.stack(), [(3, other, False), (1, other, False), (4, side, False), (2, side, False)]
+                line.stack(), [(3, other, 0), (1, other, 0), (4, side, 0), (2, side, 0)]
             )
-            self.assertEqual([thing.number for thing in line.duel.delayed], [5])
+            self.assertEqual(line.delay_numbers(), [5])
+
+    def test_to_each_step_of_a_turn(self):
+        for step in range(11):
+            for side in (1, 2):
+                line = Line(begin(0)).to_step(9)
+                # Put off in side 0's turn to the dusk of either side, it would come at side 0's.
+                if step == 10:
+                    line.end_step()
+                line.delay(0, side, step)
+                told = []
+                while line.call(DELAYS) != [0]:
+                    if line.duel.active == 1 and line.duel.step in (4, 5):
+                        line.call(fight(2))
+                    told.extend(line.end_step()[1:])
+                    self.assertLess(line.duel.turns, 3)
+                pairs = [told[place:place + 2] for place in range(0, len(told), 2)]
+                self.assertEqual(pairs[pairs.index([5, 1]) - 1], [2, step])
+
+    def test_undelayed_it_does_not_come(self):
+        line = Line(begin(0))
+        line.delay(0, 2, 2)
+        line.delay(1, 2, 2)
+        self.assertEqual(line.call(undelay(1)), [0])
+        self.assertEqual(line.end_step(), [0, 2, 2, 5, 2])
 
     def test_marks_end_before_things_come(self):
         line = Line(begin(0))
@@ -225,7 +283,7 @@ class ThingsPutOff(unittest.TestCase):
         line.delay(0, 1, 0)
         line.delay(1, 2, 1)
         self.assertEqual(line.end_step(), [0, 2, 10, 1, 1, 2, 0, 5, 1, 2, 1, 5, 2])
-        self.assertEqual(line.stack(), [(2, 1, False), (1, 0, False)])
+        self.assertEqual(line.stack(), [(2, 1, 0), (1, 0, 0)])
         self.assertEqual(line.end_step(), [0, 3, 2])
         self.assertEqual(line.end_step(), [0, 3, 1])
         self.assertEqual(line.end_step(), [0, 2, 2])

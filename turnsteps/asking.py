@@ -1,7 +1,7 @@
 """The calls by which a duel begins and the side that is asked answers: begin, pass, act, play, now."""
 
 from turnsteps.going import end_asked_step, go_on
-from turnsteps.state import Item, ask_active_side, count_things, take_number
+from turnsteps.state import Item, ask_active_side, count_things, put_on_stack, take_number
 from turnsteps.words import (
     ACCEPTED, FIRST_MAIN, ITEM_DONE, MOST_THINGS, NO_PLACE, NOT_ALLOWED, NOT_HOLDER, OUT_OF_RANGE, SECOND_MAIN,
     SIDES, WRONG_TIME,
@@ -38,6 +38,7 @@ def pass_on(duel, side):
 
 def do_top(duel, told):
     item = duel.stack.pop(0)
+    duel.items_done += 1
     told.extend([ITEM_DONE, item.number])
     ask_active_side(duel)
 
@@ -52,7 +53,7 @@ def act(duel, side, shut, slow):
     if not may_act(duel, side, slow):
         return [NOT_ALLOWED]
     number = take_number(duel)
-    duel.stack.insert(0, Item(number, side, shut == 1))
+    put_on_stack(duel, Item(number, side, shut == 1))
     duel.passed = False
     return [ACCEPTED, number]
 

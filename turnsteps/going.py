@@ -3,7 +3,7 @@
 What happens is put behind the list `told`, as pairs of numbers.
 """
 
-from turnsteps.state import Item, Mark, ask_active_side
+from turnsteps.state import Item, Mark, ask_active_side, put_on_stack
 from turnsteps.words import (
     ATTACK, BLOCK, BLOWS, DAWN, DUSK, EITHER_SIDE, FIGHT_SKIPPED, FIRST_BLOWS, MARK_ENDS, PHASES_OF_TURN,
     STEP_BEGINS, STEP_SKIPPED, THING_COMES, TILL_DUSK, TILL_DUSK_OF_OWN_TURN, TILL_OWN_STEP, TILL_OWN_TURN,
@@ -82,7 +82,7 @@ def bring_things(duel, step, told):
     others = [thing for thing in due if thing.owner != duel.active]
     for thing in own + others:
         told.extend([THING_COMES, thing.number])
-        duel.stack.insert(0, Item(thing.number, thing.owner, False))
+        put_on_stack(duel, Item(thing.number, thing.owner, False))
 
 
 def is_due(thing, step, active):
@@ -134,6 +134,7 @@ def take_side_of_turn(duel):
 
 def begin_turn(duel, side, told):
     duel.turns += 1
+    duel.turns_of_side[side] += 1
     duel.active = side
     told.extend([TURN_BEGINS, side])
     end_marks(duel, [mark.number for mark in duel.marks if mark.till == TILL_OWN_TURN and mark.side == side], told)

@@ -41,6 +41,7 @@ class Duel:
 
     def __init__(self):
         self.turns = 0
+        self.turns_of_side = [0, 0]
         self.active = 0
         self.last_ordinary = 0
         self.step = 0
@@ -60,6 +61,10 @@ class Duel:
         self.marks = []
         self.delayed = []
         self.last_number = 0
+        self.items_come = 0
+        self.items_done = 0
+        self.items_countered = 0
+        self.items_gone = 0
 
 
 def take_number(duel):
@@ -71,6 +76,11 @@ def take_number(duel):
 def count_things(duel):
     """How many things are on the stack and put off, together."""
     return len(duel.stack) + len(duel.delayed)
+
+
+def put_on_stack(duel, item):
+    duel.stack.insert(0, item)
+    duel.items_come += 1
 
 
 def ask_active_side(duel):
